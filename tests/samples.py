@@ -3,7 +3,7 @@
 import itertools
 import random
 
-from tossbook import joining, rows
+from tossbook import joining, rows, states, swaps
 
 BOUND = 1000000
 
@@ -14,25 +14,52 @@ NOT_ROWS = [
     [BOUND + 1], [-BOUND - 1], [0, BOUND + 1], [0, 0, -BOUND - 1], [10 ** 5000], [-10 ** 5000],
 ]
 
-NOT_THROWS = [True, False, None, "", "1", 1.0, 0.5, [], [1], (1,), {}, b"1", object(), int,
-              BOUND + 1, -BOUND - 1, 10 ** 5000, -10 ** 5000]
+NOT_WHOLE = [True, False, None, "", "1", 1.0, 0.5, [], [1], (1,), {}, b"1", object(), int]
+NOT_THROWS = NOT_WHOLE + [BOUND + 1, -BOUND - 1, 10 ** 5000, -10 ** 5000]
 
 CLASHING = [([2, 1], (0, 1)), ([0, 1, 0], (1, 2)), ([1, 0, 1], (0, 1)), ([3, 2, 1], (0, 1)),
             ([BOUND, BOUND - 1], (0, 1)), ([-1, 0, 0], (0, 2))]
 
-# Each function that takes a row or a pattern, in each place where it takes one.
+# Each function that takes a row or a pattern, in each place where it takes one; each takes the pattern 441.
 TAKE_A_ROW = [("clash_of", rows.clash_of)]
 TAKE_A_PATTERN = [
     ("balls_of", rows.balls_of),
-    ("after, first", lambda one: joining.after(one, [1])),
-    ("after, second", lambda other: joining.after([1], other)),
+    ("after, first", lambda one: joining.after(one, [0, 0, 0])),
+    ("after, second", lambda other: joining.after([0, 0, 0], other)),
     ("back", joining.back),
     ("turned", lambda pattern: joining.turned(pattern, 1)),
     ("lifted", lambda pattern: joining.lifted(pattern, 1)),
     ("mirrored", joining.mirrored),
     ("gaps", lambda pattern: joining.gaps(pattern, 1)),
     ("rounds", joining.rounds),
+    ("swapped", lambda pattern: swaps.swapped(pattern, 0, 2)),
+    ("neighbours", lambda pattern: swaps.neighbours(pattern, 2)),
+    ("crossings", swaps.crossings),
+    ("from_even", swaps.from_even),
+    ("states_of", states.states_of),
+    ("parted", states.parted),
 ]
+
+
+def not_whole_from(least, most):
+    """What is no whole number from least to most."""
+    return NOT_WHOLE + [least - 1, most + 1, least - 100, most + 100, -10 ** 5000, 10 ** 5000]
+
+
+def next_landings(landings, throw):
+    """From how many beats on balls land, behind a throw; or None where it is not let."""
+    if throw == 0 and 0 in landings or throw != 0 and (0 not in landings or throw in landings):
+        return None
+    left = set(landings) - {0} | ({throw} if throw else set())
+    return frozenset(beat - 1 for beat in left)
+
+
+def landings_in(state):
+    return frozenset(beat for beat in range(state.bit_length()) if state & 2 ** beat)
+
+
+def state_with(landings):
+    return sum(2 ** beat for beat in landings)
 
 
 def throw_at(row, beat):
@@ -58,6 +85,20 @@ def long_patterns():
         places = list(range(length))
         chance.shuffle(places)
         yield [place - beat + length * chance.randint(-9, 9) for beat, place in enumerate(places)]
+
+
+def plain_patterns():
+    """Patterns that have states: no throw below nought, none above 60."""
+    chance = random.Random(60)
+    for pattern in small_patterns():
+        if min(pattern) >= 0:
+            yield pattern
+    for length in list(range(1, 61)) * 2:
+        places = list(range(length))
+        chance.shuffle(places)
+        throws = [(place - beat) % length for beat, place in enumerate(places)]
+        yield [throw + length * chance.randint(0, (60 - throw) // length) for throw in throws]
+    yield from ([0], [60], [1] * 60, [60] * 60, [60, 0] * 30, [0, 60, 30], [59, 1] * 30, [60] + [0] * 59)
 
 
 def bound_patterns():

@@ -13,6 +13,7 @@ STATEMENTS = (ast.Assign, ast.AugAssign, ast.If, ast.While, ast.For, ast.Return,
 EXPRESSIONS = (ast.Constant, ast.List, ast.Tuple, ast.Dict, ast.BinOp, ast.UnaryOp, ast.BoolOp, ast.Compare, ast.IfExp,
                ast.Call, ast.Attribute, ast.Subscript, ast.Slice, ast.ListComp, ast.JoinedStr, ast.FormattedValue,
                ast.Name, ast.Lambda)
+PLAIN_VALUES = (ast.Constant, ast.UnaryOp, ast.List, ast.Tuple, ast.Dict, ast.Name)
 OWN_NAMES = set("""len range enumerate zip min max sum abs sorted reversed int str bool list tuple dict set frozenset
     isinstance ord repr any all divmod Exception ValueError TypeError KeyError IndexError LookupError ZeroDivisionError
     ArithmeticError OverflowError RuntimeError NotImplementedError AttributeError StopIteration""".split())
@@ -118,7 +119,8 @@ class Form(unittest.TestCase):
             for node in tree.body[1:]:
                 self.assertIsInstance(node, (ast.ImportFrom, ast.FunctionDef, ast.ClassDef, ast.Assign), path)
                 if isinstance(node, ast.Assign):
-                    self.assertFalse(nodes_of(node.value, ast.Call, ast.ListComp, ast.Attribute, ast.Lambda), path)
+                    self.assertFalse([part for part in nodes_of(node.value, ast.expr)
+                                      if not isinstance(part, PLAIN_VALUES)], path)
             names = top_names(tree)
             self.assertEqual(len(names), len(set(names)), path)
 

@@ -1,11 +1,11 @@
 import inspect
 import unittest
 
-from refusals import RefusalCase
+from cases import PatternCase, RefusalCase, TiesCase
 from samples import BOUND, NOT_ROWS, NOT_THROWS, long_patterns, small_patterns, some_patterns, throw_at
 from tossbook.errors import NotARow, OtherLength, OutOfBounds
 from tossbook.joining import after, back, gaps, lifted, mirrored, rounds, turned
-from tossbook.rows import balls_of, clash_of
+from tossbook.rows import balls_of
 
 NUMBERED = (("turned", turned), ("lifted", lifted), ("gaps", gaps))
 
@@ -34,16 +34,7 @@ def pairs_of_patterns():
                 yield one, other
 
 
-class JoiningCase(RefusalCase):
-
-    def is_pattern(self, answer, length, balls):
-        self.assertIs(type(answer), list)
-        self.assertEqual(len(answer), length)
-        self.assertIsNone(clash_of(answer))
-        self.assertEqual(balls_of(answer), balls)
-
-
-class AfterAndBack(JoiningCase):
+class AfterAndBack(PatternCase):
 
     def test_named_patterns(self):
         self.assertEqual(after([5, 3, 1], [4, 4, 1]), [6, 7, 5])
@@ -86,7 +77,7 @@ class AfterAndBack(JoiningCase):
         self.refused(OtherLength, after, [3] * 60, [3] * 59)
 
 
-class Made(JoiningCase):
+class Made(PatternCase):
 
     def test_named_patterns(self):
         self.assertEqual(turned([5, 3, 1], 1), [3, 1, 5])
@@ -166,7 +157,7 @@ class Made(JoiningCase):
         self.refused(OutOfBounds, gaps, [-BOUND], BOUND)
 
 
-class Rounds(JoiningCase):
+class Rounds(PatternCase):
 
     def test_named_patterns(self):
         self.assertEqual(rounds([3]), [([0], 3)])
@@ -201,38 +192,13 @@ class Rounds(JoiningCase):
             self.assertEqual(sum(balls for beats, balls in answer), balls_of(pattern))
 
 
-class NothingTied(RefusalCase):
+class NothingTied(TiesCase):
 
-    def test_the_pattern_handed_in_is_as_before(self):
+    def test_neither_to_the_pattern_nor_to_an_answer(self):
         for name, call in ASKED:
             with self.subTest(name):
-                pattern = [4, 4, 1]
-                call(pattern)
-                self.assertEqual(pattern, [4, 4, 1])
-
-    def test_an_answer_that_is_emptied_is_answered_whole_again(self):
-        for name, call in ASKED:
-            with self.subTest(name):
-                pattern = [4, 4, 1]
-                whole = repr(call(pattern))
-                call(pattern).clear()
-                self.assertEqual(pattern, [4, 4, 1])
-                self.assertEqual(repr(call(pattern)), whole)
-
-    def test_an_answer_stays_when_the_pattern_changes(self):
-        for name, call in ASKED:
-            with self.subTest(name):
-                pattern = [4, 4, 1]
-                answer = call(pattern)
-                whole = repr(answer)
-                pattern.clear()
-                self.assertEqual(repr(answer), whole)
-
-    def test_a_round_that_is_emptied_is_answered_whole_again(self):
-        pattern = [5, 3, 1]
-        for beats, balls in rounds(pattern):
-            beats.clear()
-        self.assertEqual(rounds(pattern), [([0, 2], 2), ([1], 1)])
+                self.tied_to_nothing(call, [4, 4, 1])
+                self.tied_to_nothing(call, [5, 3, 1])
 
 
 class WhichComesFirst(RefusalCase):

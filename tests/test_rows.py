@@ -1,7 +1,7 @@
 import inspect
 import unittest
 
-from refusals import RefusalCase
+from cases import RefusalCase
 from samples import (BOUND, CLASHING, NOT_ROWS, NOT_THROWS, TAKE_A_PATTERN, TAKE_A_ROW, bound_patterns, lands_apart,
                      long_patterns, small_rows, some_patterns)
 from tossbook.errors import NotARow, OutOfBounds
@@ -32,13 +32,9 @@ class Rows(RefusalCase):
     def test_the_row_handed_in_is_as_before(self):
         for name, call in TAKE_A_ROW + TAKE_A_PATTERN:
             with self.subTest(name):
-                row = [5]
+                row = [4, 4, 1]
                 call(row)
-                self.assertEqual(row, [5])
-        row = [4, 4, 1]
-        clash_of(row)
-        balls_of(row)
-        self.assertEqual(row, [4, 4, 1])
+                self.assertEqual(row, [4, 4, 1])
 
     def test_a_row_that_the_asker_changes_is_looked_at_anew(self):
         row = [4, 4, 1]
