@@ -3,7 +3,7 @@
 import itertools
 import random
 
-from tossbook import joining, rows, states, swaps
+from tossbook import changes, joining, notes, rows, states, swaps
 
 BOUND = 1000000
 
@@ -21,7 +21,7 @@ CLASHING = [([2, 1], (0, 1)), ([0, 1, 0], (1, 2)), ([1, 0, 1], (0, 1)), ([3, 2, 
             ([BOUND, BOUND - 1], (0, 1)), ([-1, 0, 0], (0, 2))]
 
 # Each function that takes a row or a pattern, in each place where it takes one; each takes the pattern 441.
-TAKE_A_ROW = [("clash_of", rows.clash_of)]
+TAKE_A_ROW = [("clash_of", rows.clash_of), ("written", notes.written)]
 TAKE_A_PATTERN = [
     ("balls_of", rows.balls_of),
     ("after, first", lambda one: joining.after(one, [0, 0, 0])),
@@ -38,6 +38,15 @@ TAKE_A_PATTERN = [
     ("from_even", swaps.from_even),
     ("states_of", states.states_of),
     ("parted", states.parted),
+    ("Change", changes.Change().done),
+    ("Turn", changes.Turn(1).done),
+    ("Lift", changes.Lift(1).done),
+    ("Swap", changes.Swap(0, 2).done),
+    ("Neighbours", changes.Neighbours(2).done),
+    ("Mirror", changes.Mirror().done),
+    ("Gaps", changes.Gaps(1).done),
+    ("Changes, none", changes.Changes([]).done),
+    ("Changes", changes.Changes([changes.Turn(1), changes.Mirror()]).done),
 ]
 
 

@@ -27,6 +27,15 @@ UNUSED_NAMES = set("""register mro elements open input version_info with_traceba
 UNUSED_WORDS = re.compile(
     r"\b(type|typing|typing_extensions|enum|Enum|IntEnum|StrEnum|Flag|IntFlag|Generic|Protocol|ABC|ABCMeta|namedtuple"
     r"|NamedTuple|TypedDict|TYPE_CHECKING|abstractmethod)\b|dataclass|overload|contextmanager")
+# What is only asked for one after the other, and where it may stand.
+WALKS = ("zip", "enumerate", "reversed", "range", "items", "keys", "values")
+WALKED_BY = ("list", "tuple", "dict", "sorted", "sum", "any", "all", "enumerate", "zip", "min", "max", "join")
+KEYWORDS = {"sorted": {"key", "reverse"}, "min": {"key", "default"}, "max": {"key", "default"}, "sum": {"start"},
+            "enumerate": {"start"}, "zip": {"strict"}}
+CHANGING = ("append", "clear", "extend", "insert", "pop", "remove", "reverse", "setdefault", "update")
+PYTHONS_OWN = set().union(*(dir(kind) for kind in (str, int, list, tuple, dict, set, frozenset, bytes)))
+BAD_VALUES = set("""items keys values pop update append clear extend insert remove reverse setdefault sort args encode
+    format""".split())
 BAD_FILES = {"test", "tests", "testing", "site", "conftest", "sitecustomize", "usercustomize"} | set(dir(builtins))
 
 
@@ -58,6 +67,21 @@ def own_attributes(trees):
             methods.update(node.name for node in owner.body if isinstance(node, ast.FunctionDef))
         values.update(node.attr for node in nodes_of(tree, ast.Attribute) if isinstance(node.ctx, ast.Store))
     return methods, values
+
+
+def called(node):
+    """The name of what is called, a function's or a method's."""
+    return getattr(node.func, "id", getattr(node.func, "attr", None))
+
+
+def kinds_asked_for(tree):
+    """The names that stand where a class may: called, as a base, by isinstance or by except."""
+    places = [node.func for node in nodes_of(tree, ast.Call)]
+    places += [base for node in nodes_of(tree, ast.ClassDef) for base in node.bases]
+    places += [node.type for node in nodes_of(tree, ast.ExceptHandler)]
+    places += [node.args[1] for node in nodes_of(tree, ast.Call) if called(node) == "isinstance"]
+    places += [node.value for node in nodes_of(tree, ast.Attribute) if node.attr == "__init__"]
+    return [name for place in places for name in ([place] + getattr(place, "elts", []))]
 
 
 class Form(unittest.TestCase):
@@ -204,9 +228,74 @@ class Form(unittest.TestCase):
     def test_methods_and_values(self):
         methods, values = own_attributes(self.trees.values())
         self.assertFalse(methods & values)
+        self.assertFalse(methods & PYTHONS_OWN - OWN_METHODS - set(DUNDER_METHODS))
+        self.assertFalse(values & (PYTHONS_OWN | BAD_VALUES))
         for place, node in self.each(ast.Attribute):
             self.assertIn(node.attr, OWN_METHODS | methods | values, place)
             self.assertNotIn(node.attr, UNUSED_NAMES, place)
+
+    def test_classes_and_pythons_own_stand_where_they_may(self):
+        classes = {node.name for place, node in self.each(ast.ClassDef)}
+        for path, tree in self.trees.items():
+            asked_for = kinds_asked_for(tree)
+            for node in nodes_of(tree, ast.Name):
+                if node.id in classes | OWN_NAMES:
+                    self.assertIn(node, asked_for, f"{path.name}:{node.lineno}")
+
+    def test_values_are_given_through_self(self):
+        for place, node in self.each(ast.Attribute):
+            if isinstance(node.ctx, ast.Store):
+                self.assertEqual(getattr(node.value, "id", None), "self", place)
+
+    def test_keywords(self):
+        for place, node in self.each(ast.Call):
+            for keyword in node.keywords:
+                self.assertIn(keyword.arg, KEYWORDS.get(called(node), ()), place)
+
+    def test_methods_are_called_where_they_stand(self):
+        methods = own_attributes(self.trees.values())[0] | OWN_METHODS
+        functions = [node.func for place, node in self.each(ast.Call)]
+        for place, node in self.each(ast.Attribute):
+            if node.attr in methods:
+                self.assertIn(node, functions, place)
+
+    def test_walked_at_once(self):
+        walked = [node.iter for place, node in self.each(ast.For, ast.comprehension)]
+        walked += [node.args[0] for place, node in self.each(ast.Call) if node.args and called(node) in WALKED_BY]
+        walked += [part for place, node in self.each(ast.Call) if called(node) == "zip" for part in node.args]
+        for place, node in self.each(ast.Call):
+            if called(node) in WALKS:
+                self.assertIn(node, walked, place)
+
+    def test_what_a_loop_walks_is_not_changed_in_it(self):
+        for place, node in self.each(ast.For):
+            names = {name.id for name in nodes_of(node.iter, ast.Name)}
+            for step in node.body:
+                for part in nodes_of(step, ast.Subscript):
+                    if isinstance(part.ctx, ast.Store):
+                        self.assertNotIn(getattr(part.value, "id", None), names, place)
+                for call in nodes_of(step, ast.Call):
+                    if called(call) in CHANGING:
+                        self.assertNotIn(getattr(call.func.value, "id", None), names, place)
+
+    def test_pythons_errors_are_taken_round_one_plain_call(self):
+        for place, node in self.each(ast.Try):
+            taken = {name.id for handler in node.handlers for name in nodes_of(handler.type, ast.Name)}
+            if taken & {"ValueError", "LookupError", "IndexError"}:
+                self.assertEqual(len(node.body), 1, place)
+                for call in nodes_of(node.body[0], ast.Call):
+                    self.assertIn(called(call), ("int", "str", "index", "remove"), place)
+                self.assertFalse(nodes_of(node.body[0], ast.JoinedStr, ast.BinOp, ast.Slice, ast.Lambda), place)
+
+    def test_what_init_gives_back(self):
+        for place, node in self.each(ast.FunctionDef):
+            if node.name == "__init__":
+                self.assertFalse(nodes_of(node, ast.Return), place)
+
+    def test_no_set_and_no_escape(self):
+        for path, tree in self.trees.items():
+            self.assertFalse([node for node in nodes_of(tree, ast.Name) if node.id in ("set", "frozenset")], path)
+            self.assertIsNone(re.search(r"\\", self.texts[path]), path)
 
 
 if __name__ == "__main__":

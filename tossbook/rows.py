@@ -6,15 +6,20 @@ LONGEST_ROW = 60
 FARTHEST_THROW = 1000000
 
 
-def is_whole(value, least, most):
-    """Whether a value is a whole number from least to most."""
+def is_whole(value):
+    """Whether a value is a whole number."""
     # Python counts True and False as int; here they are nowhere whole numbers.
-    return isinstance(value, int) and not isinstance(value, bool) and least <= value <= most
+    return isinstance(value, int) and not isinstance(value, bool)
+
+
+def is_between(value, least, most):
+    """Whether a value is a whole number from least to most."""
+    return is_whole(value) and least <= value <= most
 
 
 def is_throw(value):
     """Whether a value is a whole number within the bounds of a throw."""
-    return is_whole(value, -FARTHEST_THROW, FARTHEST_THROW)
+    return is_between(value, -FARTHEST_THROW, FARTHEST_THROW)
 
 
 # The words of a refusal leave out the value itself: Python won't write a number of very many digits.
@@ -65,7 +70,7 @@ def balls_of(pattern):
 
 def even(length, balls):
     """The pattern of so many throws that are all alike."""
-    if not is_whole(length, 1, LONGEST_ROW):
+    if not is_between(length, 1, LONGEST_ROW):
         raise OutOfBounds("a length is a whole number from 1 to 60")
     check_throw(balls)
     return [balls] * length

@@ -1,7 +1,7 @@
 """States, which tell when each ball lands, and the loops of throws that lead from a state back to it."""
 
 from tossbook.errors import NoThrow, NotPlain, OutOfBounds
-from tossbook.rows import check_pattern, is_whole
+from tossbook.rows import check_pattern, is_between
 
 GREATEST_THROW = 60
 
@@ -24,9 +24,9 @@ def led_to(state, throw):
 
 def thrown(state, throw):
     """The state that a throw leads to."""
-    if not is_whole(state, 0, 2 ** 60 - 1):
+    if not is_between(state, 0, 2 ** 60 - 1):
         raise OutOfBounds("a state is a whole number from 0 to below 2 ** 60")
-    if not is_whole(throw, 0, GREATEST_THROW):
+    if not is_between(throw, 0, GREATEST_THROW):
         raise OutOfBounds("a throw from a state is a whole number from 0 to 60")
     if not lets(state, throw):
         raise NoThrow("the state does not let the throw")

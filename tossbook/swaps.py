@@ -2,14 +2,14 @@
 
 from tossbook.errors import OutOfBounds
 from tossbook.joining import within_bounds
-from tossbook.rows import check_pattern, is_whole
+from tossbook.rows import check_pattern, is_between
 
 MOST_SWAPS = 1000
 
 
 def check_beat(value, length):
     """Refuse what is no beat from 0 to below the length."""
-    if not is_whole(value, 0, length - 1):
+    if not is_between(value, 0, length - 1):
         raise OutOfBounds("no beat from 0 to below the length")
 
 

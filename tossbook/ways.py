@@ -1,19 +1,19 @@
 """The shortest ways from state to state where no throw is above a greatest one."""
 
 from tossbook.errors import OutOfBounds
-from tossbook.rows import is_whole
+from tossbook.rows import is_between
 from tossbook.states import led_to, lets
 
 
 def check_greatest(most):
     """Refuse what is no greatest throw."""
-    if not is_whole(most, 1, 10):
+    if not is_between(most, 1, 10):
         raise OutOfBounds("a greatest throw is a whole number from 1 to 10")
 
 
 def check_state(state, most):
     """Refuse what is no state under a greatest throw."""
-    if not is_whole(state, 0, (1 << most) - 1):
+    if not is_between(state, 0, (1 << most) - 1):
         raise OutOfBounds("no state under the greatest throw")
 
 
